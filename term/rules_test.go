@@ -11,16 +11,6 @@ import (
 
 // P0, for the calls of this package: the rules R1 to R5.
 
-// odd returns terms that no program makes.
-func odd() []api.Term {
-	l := slices.Concat(wrongOnes(), []api.Term{
-		{Kind: api.Var, N: math.MinInt, Name: "\x00", Args: times(100, api.Term{Kind: 9})},
-		{Args: []api.Term{{Args: []api.Term{{Args: []api.Term{}}}}}},
-		deep(1<<16-1, variable(math.MaxInt)), deep(1<<16-1, api.Term{}), sized(200000, variable(-3)),
-	})
-	return append(l, fun("f", l[:80]...))
-}
-
 // R1: every call returns, and none panics.
 func TestCallsReturn(t *testing.T) {
 	l := odd()

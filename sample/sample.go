@@ -1,0 +1,157 @@
+// Package sample makes terms for the tests of the layers; the program itself does not use it.
+package sample
+
+import (
+	"math"
+	"slices"
+	"strconv"
+	"strings"
+
+	"finial/api"
+)
+
+// Variable returns the variable n.
+func Variable(n int) api.Term { return api.Term{Kind: api.Var, N: n} }
+
+// Number returns the number n.
+func Number(n int) api.Term { return api.Term{Kind: api.Num, N: n} }
+
+// Fun returns the Fun of that name and those Args.
+func Fun(name string, l ...api.Term) api.Term { return api.Term{Kind: api.Fun, Name: name, Args: l} }
+
+// Times returns n terms x.
+func Times(n int, x api.Term) []api.Term {
+	var l []api.Term
+	for range n {
+		l = append(l, x)
+	}
+	return l
+}
+
+// Deep returns x inside n Funs of one Arg.
+func Deep(n int, x api.Term) api.Term {
+	for range n {
+		x = Fun("f", x)
+	}
+	return x
+}
+
+// Sized returns a term of n terms in all, whose depth is small; its leaves are x.
+func Sized(n int, x api.Term) api.Term {
+	if n == 1 {
+		return x
+	}
+	left := n - 1
+	var l []api.Term
+	for i := api.MaxArity; i > 0 && left > 0; i-- {
+		part := (left + i - 1) / i
+		l = append(l, Sized(part, x))
+		left -= part
+	}
+	return Fun("f", l...)
+}
+
+// Spine returns n Funs, each but the last one with the next one as its last Arg, after width others that are x.
+func Spine(n, width int, x api.Term) api.Term {
+	t := Fun("s")
+	for range n - 1 {
+		t = Fun("s", append(Times(width, x), t)...)
+	}
+	return t
+}
+
+// RightOnes returns valid terms of all kinds.
+func RightOnes() []api.Term {
+	return []api.Term{
+		Variable(0), Variable(7), Variable(api.MaxVar - 1), Variable(api.MaxVar / 2),
+		Number(0), Number(-1), Number(math.MinInt), Number(math.MaxInt), Number(api.MaxVar),
+		Fun("a"), Fun("_3"), Fun("[]"), Fun("'"), Fun(" "), Fun("~"), Fun("A b(,"), Fun(strings.Repeat("x", api.MaxName)),
+		Fun("f", Variable(3), Fun("g", Variable(1), Variable(3))),
+		Fun("f", Variable(1), Variable(0), Variable(2), Variable(1)),
+		Fun("f", Number(3), Variable(3), Fun("g", Number(4))),
+		Fun("f", Variable(9), Fun("f", Variable(8), Fun("f", Variable(7)), Variable(9)), Variable(5)),
+		Fun(".", Number(1), Fun(".", Variable(4), Fun("[]"))),
+		Fun("f", Times(api.MaxArity, Variable(2))...),
+		Fun("f", Times(api.MaxArity, Fun("f", Times(api.MaxArity, Number(2))...))...),
+		Deep(api.MaxDeep-1, Variable(12)), Deep(api.MaxDeep-1, Number(12)), Deep(api.MaxDeep-1, Fun("a")),
+		Sized(api.MaxNodes, Variable(6)), Sized(api.MaxNodes, Number(6)), Sized(api.MaxNodes, Fun("a")),
+		Spine(api.MaxDeep, 1, Variable(2)), Spine(api.MaxDeep, 7, Number(2)),
+	}
+}
+
+// WrongOnes returns terms with one fault each.
+func WrongOnes() []api.Term {
+	l := []api.Term{
+		{}, {Kind: -1}, {Kind: 4}, {Kind: math.MinInt}, {Kind: math.MaxInt}, {Name: "a"}, {Kind: 4, Name: "a"},
+		Variable(-1), Variable(api.MaxVar), Variable(math.MinInt), Variable(math.MaxInt),
+		{Kind: api.Var, Name: "a"}, {Kind: api.Var, Args: []api.Term{Fun("a")}}, {Kind: api.Var, Args: []api.Term{Variable(1)}},
+		{Kind: api.Num, Name: "a"}, {Kind: api.Num, Args: []api.Term{Fun("a")}}, {Kind: api.Num, N: 5, Args: []api.Term{Variable(1)}},
+		Fun(""), Fun("", Fun("a")), Fun(strings.Repeat("x", api.MaxName+1)), Fun(strings.Repeat("x", 100000)),
+		Fun("\x1f"), Fun("\x7f"), Fun("\x00"), Fun("\xff"), Fun("\n"), Fun("é"), Fun("a\n"), Fun("\na"), Fun("a\x7fb"),
+		{Kind: api.Fun, Name: "a", N: 1}, {Kind: api.Fun, Name: "a", N: -1}, {Kind: api.Fun, Name: "a", N: math.MinInt, Args: []api.Term{Fun("a")}},
+		Fun("f", Times(api.MaxArity+1, Fun("a"))...),
+		Deep(api.MaxDeep, Variable(0)), Deep(api.MaxDeep, Number(0)), Deep(api.MaxDeep, Fun("a")),
+		Sized(api.MaxNodes+1, Variable(0)), Sized(api.MaxNodes+1, Number(0)), Sized(api.MaxNodes+1, Fun("a")),
+		Fun("f", Sized(api.MaxNodes/2, Fun("a")), Sized(api.MaxNodes/2, Fun("a"))),
+		Fun("f", Deep(api.MaxDeep-1, Fun("a")), Fun("a")), Spine(api.MaxDeep+1, 1, Variable(0)),
+	}
+	for _, x := range l {
+		l = append(l, Fun("f", x), Fun("f", x, Fun("a")), Fun("f", Fun("a"), Number(2), x), Deep(5, x))
+	}
+	return append(l, Fun("f", Times(1000, Variable(1))...), Deep(1<<15, Variable(1)), Deep(1<<15, api.Term{}))
+}
+
+// Odd returns terms that no program makes.
+func Odd() []api.Term {
+	l := slices.Concat(WrongOnes(), []api.Term{
+		{Kind: api.Var, N: math.MinInt, Name: "\x00", Args: Times(100, api.Term{Kind: 9})},
+		{Args: []api.Term{{Args: []api.Term{{Args: []api.Term{}}}}}},
+		Deep(1<<16-1, Variable(math.MaxInt)), Deep(1<<16-1, api.Term{}), Sized(200000, Variable(-3)),
+	})
+	return append(l, Fun("f", l[:80]...))
+}
+
+// Apart returns a copy of t that shares no memory with it.
+func Apart(t api.Term) api.Term {
+	var l []api.Term
+	for _, x := range t.Args {
+		l = append(l, Apart(x))
+	}
+	return api.Term{Kind: t.Kind, Name: t.Name, N: t.N, Args: l}
+}
+
+// Alike compares terms without the package that is tested.
+func Alike(a, b api.Term) bool {
+	if a.Kind != b.Kind || a.Name != b.Name || a.N != b.N || len(a.Args) != len(b.Args) {
+		return false
+	}
+	for i := range a.Args {
+		if !Alike(a.Args[i], b.Args[i]) {
+			return false
+		}
+	}
+	return true
+}
+
+// AllAlike compares two lists of terms without the package that is tested.
+func AllAlike(a, b []api.Term) bool {
+	return Alike(Fun("f", a...), Fun("f", b...))
+}
+
+// Brief is the beginning of a term's text, for a message.
+func Brief(t api.Term) string {
+	s := beginning(t, 80)
+	return strconv.Quote(s[:min(len(s), 80)])
+}
+
+// beginning is some more than room bytes of t at most: a term may be very large.
+func beginning(t api.Term, room int) string {
+	s := strconv.Itoa(t.Kind) + ":" + t.Name[:min(len(t.Name), room)] + ":" + strconv.Itoa(t.N)
+	for _, x := range t.Args {
+		if len(s) >= room {
+			return s
+		}
+		s += "(" + beginning(x, room-len(s)) + ")"
+	}
+	return s
+}
