@@ -75,25 +75,9 @@ func anyTerms(n int, seed int64) []api.Term {
 	r := rand.New(rand.NewSource(seed))
 	var l []api.Term
 	for range n {
-		l = append(l, anyTerm(r, 3))
+		l = append(l, sample.AnyTerm(r.Intn, 3, 3))
 	}
 	return l
-}
-
-func anyTerm(r *rand.Rand, depth int) api.Term {
-	switch k := r.Intn(7); {
-	case k < 3:
-		return variable(r.Intn(3))
-	case k == 3:
-		return number(r.Intn(3) - 1)
-	case k == 4 || depth == 1:
-		return fun([]string{"a", "b", "ab"}[r.Intn(3)])
-	}
-	var l []api.Term
-	for range 1 + r.Intn(3) {
-		l = append(l, anyTerm(r, depth-1))
-	}
-	return fun([]string{"f", "g", "fg"}[r.Intn(3)], l...)
 }
 
 // threes returns all terms f(x, y, z) of three variables or fewer.

@@ -6,6 +6,7 @@ import (
 
 	"finial/api"
 	"finial/compare"
+	"finial/sample"
 )
 
 // P0, for the calls of this package: the rules R1 to R5.
@@ -126,5 +127,16 @@ func TestNamesByBytes(t *testing.T) {
 				}
 			}
 		}
+	}
+}
+
+// What Sort returns shares no memory with the terms that it was given.
+func TestResultsShareNothing(t *testing.T) {
+	l := append(anyTerms(40, 5), rightOnes()...)
+	before := apart(fun("f", l...)).Args
+	got, _ := compare.Sort(l)
+	sample.Overwrite(fun("f", got...))
+	if !allAlike(l, before) {
+		t.Error("changed")
 	}
 }

@@ -111,6 +111,31 @@ func Odd() []api.Term {
 	return append(l, Fun("f", l[:80]...))
 }
 
+// AnyTerm returns a valid term of few kinds, of the variables 0 to vars - 1, and of depth at most; pick(n) picks a number below n.
+func AnyTerm(pick func(n int) int, vars, depth int) api.Term {
+	switch k := pick(7); {
+	case k < 3:
+		return Variable(pick(vars))
+	case k == 3:
+		return Number(pick(3) - 1)
+	case k == 4 || depth == 1:
+		return Fun([]string{"a", "b", "ab"}[pick(3)])
+	}
+	var l []api.Term
+	for range 1 + pick(3) {
+		l = append(l, AnyTerm(pick, vars, depth-1))
+	}
+	return Fun([]string{"f", "g", "fg"}[pick(3)], l...)
+}
+
+// Overwrite writes over all terms inside t, where they lie in memory: what shares memory with t changes.
+func Overwrite(t api.Term) {
+	for i, x := range t.Args {
+		Overwrite(x)
+		t.Args[i] = Fun("overwritten")
+	}
+}
+
 // Apart returns a copy of t that shares no memory with it.
 func Apart(t api.Term) api.Term {
 	var l []api.Term
