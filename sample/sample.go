@@ -128,6 +128,36 @@ func AnyTerm(pick func(n int) int, vars, depth int) api.Term {
 	return Fun([]string{"f", "g", "fg"}[pick(3)], l...)
 }
 
+// Bind binds the variable v to t.
+func Bind(v int, t api.Term) api.Bind { return api.Bind{V: v, T: t} }
+
+// Binds binds the variable 0 to the first term, 1 to the next one, and so on.
+func Binds(l ...api.Term) []api.Bind {
+	var m []api.Bind
+	for i, t := range l {
+		m = append(m, Bind(i, t))
+	}
+	return m
+}
+
+// Becomes returns what t becomes, by the words of the document alone and without regard to room.
+func Becomes(l []api.Bind, t api.Term) api.Term {
+	if t.Kind == api.Var {
+		for _, b := range l {
+			if b.V == t.N {
+				return Becomes(l, b.T)
+			}
+		}
+		return t
+	}
+	var args []api.Term
+	for _, a := range t.Args {
+		args = append(args, Becomes(l, a))
+	}
+	t.Args = args
+	return t
+}
+
 // Overwrite writes over all terms inside t, where they lie in memory: what shares memory with t changes.
 func Overwrite(t api.Term) {
 	for i, x := range t.Args {
@@ -161,6 +191,28 @@ func Alike(a, b api.Term) bool {
 // AllAlike compares two lists of terms without the package that is tested.
 func AllAlike(a, b []api.Term) bool {
 	return Alike(Fun("f", a...), Fun("f", b...))
+}
+
+// AlikeBinds compares two lists of binds without the package that is tested.
+func AlikeBinds(a, b []api.Bind) bool {
+	if len(a) != len(b) {
+		return false
+	}
+	for i := range a {
+		if a[i].V != b[i].V || !Alike(a[i].T, b[i].T) {
+			return false
+		}
+	}
+	return true
+}
+
+// ApartBinds returns a copy of l that shares no memory with it.
+func ApartBinds(l []api.Bind) []api.Bind {
+	var m []api.Bind
+	for _, b := range l {
+		m = append(m, Bind(b.V, Apart(b.T)))
+	}
+	return m
 }
 
 // Brief is the beginning of a term's text, for a message.

@@ -21,22 +21,17 @@ var (
 	wrongOnes = sample.WrongOnes
 	odd       = sample.Odd
 
-	apart = sample.Apart
-	alike = sample.Alike
-	brief = sample.Brief
+	bind  = sample.Bind
+	binds = sample.Binds
+
+	apart      = sample.Apart
+	apartBinds = sample.ApartBinds
+	alike      = sample.Alike
+	alikeBinds = sample.AlikeBinds
+	brief      = sample.Brief
+
+	becomesByWords = sample.Becomes
 )
-
-// bind binds the variable v to t.
-func bind(v int, t api.Term) api.Bind { return api.Bind{V: v, T: t} }
-
-// binds binds the variable 0 to the first term, 1 to the next one, and so on.
-func binds(l ...api.Term) []api.Bind {
-	var m []api.Bind
-	for i, t := range l {
-		m = append(m, bind(i, t))
-	}
-	return m
-}
 
 // steps binds each of n variables from 0 on to what step makes of the next one.
 func steps(n int, step func(next api.Term) api.Term) []api.Bind {
@@ -57,27 +52,6 @@ func balanced(levels int, x api.Term) api.Term {
 		x = twice(x)
 	}
 	return x
-}
-
-func alikeBinds(a, b []api.Bind) bool {
-	if len(a) != len(b) {
-		return false
-	}
-	for i := range a {
-		if a[i].V != b[i].V || !alike(a[i].T, b[i].T) {
-			return false
-		}
-	}
-	return true
-}
-
-// apartBinds returns a copy of l that shares no memory with it.
-func apartBinds(l []api.Bind) []api.Bind {
-	var m []api.Bind
-	for _, b := range l {
-		m = append(m, bind(b.V, apart(b.T)))
-	}
-	return m
 }
 
 // shuffled returns the binds in another order.
@@ -172,23 +146,6 @@ func rightByWords(l []api.Bind) bool {
 		}
 	}
 	return true
-}
-
-func becomesByWords(l []api.Bind, t api.Term) api.Term {
-	if t.Kind == api.Var {
-		for _, b := range l {
-			if b.V == t.N {
-				return becomesByWords(l, b.T)
-			}
-		}
-		return t
-	}
-	var args []api.Term
-	for _, a := range t.Args {
-		args = append(args, becomesByWords(l, a))
-	}
-	t.Args = args
-	return t
 }
 
 // wrongBinds returns lists that are no valid substitutions, with one fault each.
