@@ -92,7 +92,7 @@ func TestFillBounds(t *testing.T) {
 func TestFillFollowsTheWords(t *testing.T) {
 	r := rand.New(rand.NewSource(52))
 	for range 20000 {
-		pattern, l := anyPattern(r, 5), anyValues(r, 5)
+		pattern, l := anyPattern(r.Intn, 5), anyValues(r, 5)
 		want := filledByWords(pattern, l)
 		checkFill(t, pattern, l, want)
 		r.Shuffle(len(l), func(i, j int) { l[i], l[j] = l[j], l[i] })

@@ -37,9 +37,9 @@ func TestFilledWithValues(t *testing.T) {
 		}
 	}
 	for range 10000 {
-		pattern := anyPattern(r, 4)
+		pattern := anyPattern(r.Intn, 4)
 		check(pattern, filledByWords(pattern, anyValues(r, 4)))
-		check(pattern, nearly(r, pattern))
+		check(pattern, nearly(r.Intn, pattern))
 	}
 	if found < 12000 {
 		t.Errorf("only %d instances", found)
@@ -50,7 +50,7 @@ func TestFilledWithValues(t *testing.T) {
 func TestFilledIsInstance(t *testing.T) {
 	r := rand.New(rand.NewSource(54))
 	for range 10000 {
-		pattern, l := anyPattern(r, 5), anyValues(r, 5)
+		pattern, l := anyPattern(r.Intn, 5), anyValues(r, 5)
 		x, e := match.Fill(pattern, l)
 		if e != api.OK || !match.Instance(x, pattern) {
 			t.Fatalf("%s, filled with %s: %s, %d: no instance", brief(pattern), briefBinds(l), brief(x), e)
@@ -100,7 +100,7 @@ func TestInstancesOfInstances(t *testing.T) {
 	}
 	r := rand.New(rand.NewSource(55))
 	for range 10000 {
-		one := anyPattern(r, 4)
+		one := anyPattern(r.Intn, 4)
 		two, e := match.Fill(one, anyValues(r, 4))
 		three, f := match.Fill(two, anyValues(r, 4))
 		if e == api.OK && f == api.OK && !(match.Instance(two, one) && match.Instance(three, two) && match.Instance(three, one)) {

@@ -19,9 +19,17 @@ var (
 	deep     = sample.Deep
 	sized    = sample.Sized
 
-	rightOnes = sample.RightOnes
-	wrongOnes = sample.WrongOnes
-	odd       = sample.Odd
+	variables = sample.Variables
+	twice     = sample.Twice
+
+	rightOnes  = sample.RightOnes
+	smallTerms = sample.SmallOnes
+	wrongOnes  = sample.WrongOnes
+	odd        = sample.Odd
+
+	anyPattern = sample.AnyPattern
+	nearly     = sample.Nearly
+	numbered   = sample.Numbered
 
 	bind  = sample.Bind
 	binds = sample.Binds
@@ -31,6 +39,8 @@ var (
 	alike      = sample.Alike
 	alikeBinds = sample.AlikeBinds
 	brief      = sample.Brief
+
+	filledByWords = sample.Filled
 )
 
 // briefBinds is the beginning of the binds' texts, for a message.
@@ -42,36 +52,7 @@ func briefBinds(l []api.Bind) string {
 	return s
 }
 
-func twice(x api.Term) api.Term { return fun("f", x, x) }
-
-// variables returns n variables from first on.
-func variables(first, n int) []api.Term {
-	var l []api.Term
-	for i := range n {
-		l = append(l, variable(first+i))
-	}
-	return l
-}
-
 // The words of the chapter, without the package that is tested and without regard to room.
-
-// filledByWords returns the pattern with each variable replaced by the term of its first bind, once.
-func filledByWords(pattern api.Term, l []api.Bind) api.Term {
-	if pattern.Kind == api.Var {
-		for _, b := range l {
-			if b.V == pattern.N {
-				return b.T
-			}
-		}
-		return pattern
-	}
-	var args []api.Term
-	for _, a := range pattern.Args {
-		args = append(args, filledByWords(a, l))
-	}
-	pattern.Args = args
-	return pattern
-}
 
 // matchedByWords returns the values of the pattern's variables, and whether there are any. If there are, each is what
 // stands in t where the variable first stands in the pattern: so there are values exactly if these make t of the pattern.
@@ -108,31 +89,6 @@ func inside(t api.Term) []api.Term {
 	return l
 }
 
-// smallTerms returns all terms of the variables 0 and 1, a, 1, and of f and g around these.
-func smallTerms() []api.Term {
-	leaves := []api.Term{variable(0), variable(1), fun("a"), number(1)}
-	l := append([]api.Term{}, leaves...)
-	for _, x := range leaves {
-		l = append(l, fun("g", x))
-	}
-	parts := append([]api.Term{}, l...)
-	for _, x := range parts {
-		for _, y := range parts {
-			l = append(l, fun("f", x, y))
-		}
-	}
-	return append(l, fun("g", fun("g", variable(0))), fun("g", fun("f", variable(0), variable(0))), fun("f"), fun("f", variable(0)), fun("f", variable(0), variable(1), variable(0)))
-}
-
-// anyPattern returns a valid term of few variables, or one with more parts.
-func anyPattern(r *rand.Rand, vars int) api.Term {
-	t := sample.AnyTerm(r.Intn, vars, 1+r.Intn(4))
-	for range r.Intn(3) {
-		t = fun("h", t, sample.AnyTerm(r.Intn, vars, 2), variable(r.Intn(vars)))
-	}
-	return t
-}
-
 // anyValues binds most of the variables 0 to vars - 1, in any order; the values have variables of the same numbers.
 func anyValues(r *rand.Rand, vars int) []api.Bind {
 	var l []api.Bind
@@ -142,17 +98,6 @@ func anyValues(r *rand.Rand, vars int) []api.Bind {
 		}
 	}
 	return l
-}
-
-// nearly returns t with another term in the place of one inside it.
-func nearly(r *rand.Rand, t api.Term) api.Term {
-	if len(t.Args) == 0 || r.Intn(4) == 0 {
-		return sample.AnyTerm(r.Intn, 4, 2)
-	}
-	t = apart(t)
-	i := r.Intn(len(t.Args))
-	t.Args[i] = nearly(r, t.Args[i])
-	return t
 }
 
 // checkMatch asks for the values of the pattern's variables, and compares them with the words; it reports whether t is an instance.

@@ -133,33 +133,16 @@ func TestMatchOfLargeTerms(t *testing.T) {
 	checkWanted(t, pattern, filledByWords(pattern, want), want, true)
 }
 
-// numbered returns t with its variables numbered from its end, from first on, each place by a number of its own.
-func numbered(t api.Term, first int) api.Term {
-	t = apart(t)
-	var each func(x *api.Term)
-	each = func(x *api.Term) {
-		if x.Kind == api.Var {
-			x.N = first
-			first++
-		}
-		for i := range x.Args {
-			each(&x.Args[len(x.Args)-1-i])
-		}
-	}
-	each(&t)
-	return t
-}
-
 func TestMatchFollowsTheWords(t *testing.T) {
 	r := rand.New(rand.NewSource(51))
 	count := map[bool]int{}
 	for range 20000 {
-		pattern := anyPattern(r, 1+r.Intn(5))
+		pattern := anyPattern(r.Intn, 1+r.Intn(5))
 		x := filledByWords(pattern, anyValues(r, 5))
-		for _, y := range []api.Term{x, nearly(r, x), nearly(r, pattern), anyPattern(r, 5)} {
+		for _, y := range []api.Term{x, nearly(r.Intn, x), nearly(r.Intn, pattern), anyPattern(r.Intn, 5)} {
 			count[checkMatch(t, pattern, y)]++
 		}
-		count[checkMatch(t, nearly(r, pattern), x)]++
+		count[checkMatch(t, nearly(r.Intn, pattern), x)]++
 	}
 	if count[true] < 20000 || count[false] < 20000 {
 		t.Errorf("too few of one kind: %v", count)

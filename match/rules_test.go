@@ -106,7 +106,7 @@ func TestArgumentsStay(t *testing.T) {
 		lists = append(lists, anyValues(r, 4))
 	}
 	for _, l := range lists {
-		pattern := anyPattern(r, 4)
+		pattern := anyPattern(r.Intn, 4)
 		whole := append(slices.Clone(l), bind(77, fun("behind")), bind(78, fun("behind", number(4))))
 		l := whole[:len(whole)-2]
 		before := apartBinds(whole)
@@ -135,7 +135,7 @@ func TestResultsStay(t *testing.T) {
 	l, _, _ := match.Match(pattern, x)
 	filled, _ := match.Fill(pattern, l)
 	for range 200 {
-		p := anyPattern(r, 4)
+		p := anyPattern(r.Intn, 4)
 		m := anyValues(r, 4)
 		match.Match(p, filledByWords(p, m))
 		match.Match(pattern, filled)
@@ -206,7 +206,7 @@ func TestSameResultsAgain(t *testing.T) {
 	for range 30 {
 		match.Match(pattern, api.Term{})
 		match.Fill(pattern, wrongValues()[0])
-		match.Match(anyPattern(r, 4), filled)
+		match.Match(anyPattern(r.Intn, 4), filled)
 		if again, is, e := match.Match(pattern, filled); e != api.OK || !is || !alikeBinds(again, l) {
 			t.Fatal("another result of Match")
 		}

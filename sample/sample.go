@@ -28,6 +28,18 @@ func Times(n int, x api.Term) []api.Term {
 	return l
 }
 
+// Variables returns n variables from first on.
+func Variables(first, n int) []api.Term {
+	var l []api.Term
+	for i := range n {
+		l = append(l, Variable(first+i))
+	}
+	return l
+}
+
+// Twice returns a Fun of x and x.
+func Twice(x api.Term) api.Term { return Fun("f", x, x) }
+
 // Deep returns x inside n Funs of one Arg.
 func Deep(n int, x api.Term) api.Term {
 	for range n {
@@ -79,6 +91,22 @@ func RightOnes() []api.Term {
 	}
 }
 
+// SmallOnes returns all terms of the variables 0 and 1, a, 1, and of f and g around these, and some more.
+func SmallOnes() []api.Term {
+	leaves := []api.Term{Variable(0), Variable(1), Fun("a"), Number(1)}
+	parts := slices.Clone(leaves)
+	for _, x := range leaves {
+		parts = append(parts, Fun("g", x))
+	}
+	l := slices.Clone(parts)
+	for _, x := range parts {
+		for _, y := range parts {
+			l = append(l, Fun("f", x, y))
+		}
+	}
+	return append(l, Fun("g", Fun("g", Variable(0))), Fun("g", Twice(Variable(0))), Fun("f"), Fun("f", Variable(0)), Fun("f", Variable(0), Variable(1), Variable(0)))
+}
+
 // WrongOnes returns terms with one fault each.
 func WrongOnes() []api.Term {
 	l := []api.Term{
@@ -128,6 +156,43 @@ func AnyTerm(pick func(n int) int, vars, depth int) api.Term {
 	return Fun([]string{"f", "g", "fg"}[pick(3)], l...)
 }
 
+// AnyPattern returns a valid term of the variables 0 to vars - 1, often one of more parts than AnyTerm.
+func AnyPattern(pick func(n int) int, vars int) api.Term {
+	t := AnyTerm(pick, vars, 1+pick(4))
+	for range pick(3) {
+		t = Fun("h", t, AnyTerm(pick, vars, 2), Variable(pick(vars)))
+	}
+	return t
+}
+
+// Nearly returns t with another term in the place of one inside it.
+func Nearly(pick func(n int) int, t api.Term) api.Term {
+	if len(t.Args) == 0 || pick(4) == 0 {
+		return AnyTerm(pick, 4, 2)
+	}
+	t = Apart(t)
+	i := pick(len(t.Args))
+	t.Args[i] = Nearly(pick, t.Args[i])
+	return t
+}
+
+// Numbered returns t with its variables numbered from its end, from first on, each place by a number of its own.
+func Numbered(t api.Term, first int) api.Term {
+	t = Apart(t)
+	var each func(x *api.Term)
+	each = func(x *api.Term) {
+		if x.Kind == api.Var {
+			x.N = first
+			first++
+		}
+		for i := range x.Args {
+			each(&x.Args[len(x.Args)-1-i])
+		}
+	}
+	each(&t)
+	return t
+}
+
 // Bind binds the variable v to t.
 func Bind(v int, t api.Term) api.Bind { return api.Bind{V: v, T: t} }
 
@@ -156,6 +221,25 @@ func Becomes(l []api.Bind, t api.Term) api.Term {
 	}
 	t.Args = args
 	return t
+}
+
+// Filled returns the pattern with each variable replaced by the term of its first bind, once, by the words of the
+// document alone and without regard to room.
+func Filled(pattern api.Term, l []api.Bind) api.Term {
+	if pattern.Kind == api.Var {
+		for _, b := range l {
+			if b.V == pattern.N {
+				return b.T
+			}
+		}
+		return pattern
+	}
+	var args []api.Term
+	for _, a := range pattern.Args {
+		args = append(args, Filled(a, l))
+	}
+	pattern.Args = args
+	return pattern
 }
 
 // Overwrite writes over all terms inside t, where they lie in memory: what shares memory with t changes.

@@ -16,6 +16,7 @@ var (
 	times    = sample.Times
 	deep     = sample.Deep
 	sized    = sample.Sized
+	twice    = sample.Twice
 
 	rightOnes = sample.RightOnes
 	wrongOnes = sample.WrongOnes
@@ -44,7 +45,6 @@ func steps(n int, step func(next api.Term) api.Term) []api.Bind {
 
 func next(x api.Term) api.Term   { return x }
 func deeper(x api.Term) api.Term { return fun("f", x) }
-func twice(x api.Term) api.Term  { return fun("f", x, x) }
 
 // balanced is the full tree of that many levels above its leaves x.
 func balanced(levels int, x api.Term) api.Term {

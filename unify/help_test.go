@@ -19,6 +19,9 @@ var (
 	deep     = sample.Deep
 	sized    = sample.Sized
 
+	variables = sample.Variables
+	twice     = sample.Twice
+
 	rightOnes = sample.RightOnes
 	wrongOnes = sample.WrongOnes
 	odd       = sample.Odd
@@ -36,17 +39,6 @@ var (
 
 // pair is two terms that are to be unified.
 type pair = [2]api.Term
-
-func twice(x api.Term) api.Term { return fun("f", x, x) }
-
-// variables returns n variables from first on.
-func variables(first, n int) []api.Term {
-	var l []api.Term
-	for i := range n {
-		l = append(l, variable(first+i))
-	}
-	return l
-}
 
 // packed is one term with all terms of l in it, whose shape depends on their number alone.
 func packed(l []api.Term) api.Term {
