@@ -30,6 +30,7 @@ var (
 	anyPattern = sample.AnyPattern
 	nearly     = sample.Nearly
 	numbered   = sample.Numbered
+	inside     = sample.Inside
 
 	bind  = sample.Bind
 	binds = sample.Binds
@@ -76,15 +77,6 @@ func standing(pattern, t api.Term, l []api.Bind) []api.Bind {
 	}
 	for i, a := range pattern.Args[:min(len(pattern.Args), len(t.Args))] {
 		l = standing(a, t.Args[i], l)
-	}
-	return l
-}
-
-// inside returns t and all terms inside it.
-func inside(t api.Term) []api.Term {
-	l := []api.Term{t}
-	for _, a := range t.Args {
-		l = append(l, inside(a)...)
 	}
 	return l
 }

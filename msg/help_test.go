@@ -2,8 +2,6 @@ package msg_test
 
 import (
 	"math/rand"
-	"strconv"
-	"strings"
 	"testing"
 
 	"finial/api"
@@ -40,31 +38,9 @@ var (
 	alike    = sample.Alike
 	allAlike = sample.AllAlike
 	brief    = sample.Brief
+	briefAll = sample.BriefAll
+	text     = sample.Text
 )
-
-// briefAll is the beginning of the terms' texts, for a message.
-func briefAll(l []api.Term) string {
-	s := strconv.Itoa(len(l)) + " terms:"
-	for _, x := range l[:min(len(l), 6)] {
-		s += " " + brief(x)
-	}
-	return s
-}
-
-// text is the whole text of a term, which tells it from every other one.
-func text(t api.Term) string {
-	var b strings.Builder
-	var write func(x api.Term)
-	write = func(x api.Term) {
-		b.WriteString(strconv.Itoa(x.Kind) + strconv.Quote(x.Name) + strconv.Itoa(x.N) + "(")
-		for _, a := range x.Args {
-			write(a)
-		}
-		b.WriteString(")")
-	}
-	write(t)
-	return b.String()
-}
 
 // leastByWords returns the least generalisation of terms, without the package that is tested: what stands at a place
 // where not all of the terms have the same Num or Fun becomes a variable, which is the same one wherever the same

@@ -193,6 +193,15 @@ func Numbered(t api.Term, first int) api.Term {
 	return t
 }
 
+// Inside returns t and all terms inside it.
+func Inside(t api.Term) []api.Term {
+	l := []api.Term{t}
+	for _, x := range t.Args {
+		l = append(l, Inside(x)...)
+	}
+	return l
+}
+
 // Bind binds the variable v to t.
 func Bind(v int, t api.Term) api.Bind { return api.Bind{V: v, T: t} }
 
@@ -303,6 +312,30 @@ func ApartBinds(l []api.Bind) []api.Bind {
 func Brief(t api.Term) string {
 	s := beginning(t, 80)
 	return strconv.Quote(s[:min(len(s), 80)])
+}
+
+// BriefAll is the beginning of the terms' texts, for a message.
+func BriefAll(l []api.Term) string {
+	s := strconv.Itoa(len(l)) + " terms:"
+	for _, x := range l[:min(len(l), 6)] {
+		s += " " + Brief(x)
+	}
+	return s
+}
+
+// Text is the whole text of a term, which tells it from every other one.
+func Text(t api.Term) string {
+	var b strings.Builder
+	var write func(x api.Term)
+	write = func(x api.Term) {
+		b.WriteString(strconv.Itoa(x.Kind) + strconv.Quote(x.Name) + strconv.Itoa(x.N) + "(")
+		for _, a := range x.Args {
+			write(a)
+		}
+		b.WriteString(")")
+	}
+	write(t)
+	return b.String()
 }
 
 // beginning is some more than room bytes of t at most: a term may be very large.
