@@ -10,7 +10,10 @@ import (
 
 	"finial/api"
 	"finial/lex"
+	"finial/sample"
 )
+
+var texts = sample.Texts
 
 func name(text string, at int) lex.Token { return lex.Token{Kind: 1, Text: text, At: at} }
 
@@ -137,23 +140,6 @@ func checkWords(t *testing.T, s string) bool {
 	}
 	checkTokens(t, s, want...)
 	return true
-}
-
-// texts calls do with each text of n of the bytes.
-func texts(bytes string, n int, do func(s string)) {
-	l := make([]byte, n)
-	var each func(i int)
-	each = func(i int) {
-		if i == n {
-			do(string(l))
-			return
-		}
-		for k := range len(bytes) {
-			l[i] = bytes[k]
-			each(i + 1)
-		}
-	}
-	each(0)
 }
 
 // anyText returns a text of up to n pieces, almost always one that has tokens if right, seldom otherwise.

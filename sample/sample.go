@@ -338,6 +338,23 @@ func Text(t api.Term) string {
 	return b.String()
 }
 
+// Texts calls do with each text of n of the bytes.
+func Texts(bytes string, n int, do func(s string)) {
+	l := make([]byte, n)
+	var each func(i int)
+	each = func(i int) {
+		if i == n {
+			do(string(l))
+			return
+		}
+		for k := range len(bytes) {
+			l[i] = bytes[k]
+			each(i + 1)
+		}
+	}
+	each(0)
+}
+
 // beginning is some more than room bytes of t at most: a term may be very large.
 func beginning(t api.Term, room int) string {
 	s := strconv.Itoa(t.Kind) + ":" + t.Name[:min(len(t.Name), room)] + ":" + strconv.Itoa(t.N)
