@@ -19,6 +19,18 @@ func Number(n int) api.Term { return api.Term{Kind: api.Num, N: n} }
 // Fun returns the Fun of that name and those Args.
 func Fun(name string, l ...api.Term) api.Term { return api.Term{Kind: api.Fun, Name: name, Args: l} }
 
+// Pair returns the list of the first element x and the remaining list y.
+func Pair(x, y api.Term) api.Term { return Fun(".", x, y) }
+
+// List returns the list of these elements.
+func List(l ...api.Term) api.Term {
+	t := Fun("[]")
+	for _, x := range slices.Backward(l) {
+		t = Pair(x, t)
+	}
+	return t
+}
+
 // Times returns n terms x.
 func Times(n int, x api.Term) []api.Term {
 	var l []api.Term

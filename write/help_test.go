@@ -16,20 +16,16 @@ var (
 	variable = sample.Variable
 	number   = sample.Number
 	fun      = sample.Fun
+	pair     = sample.Pair
+	list     = sample.List
 	texts    = sample.Texts
+	call     = sample.Call
+	does     = sample.Does
+	cut      = sample.Cut
+	ifs      = sample.If
+	not      = sample.Not
+	goals    = sample.Goals
 )
-
-// pair returns the list of the first element x and the remaining list y.
-func pair(x, y api.Term) api.Term { return fun(".", x, y) }
-
-// list returns the list of these elements.
-func list(l ...api.Term) api.Term {
-	t := fun("[]")
-	for i := range l {
-		t = pair(l[len(l)-1-i], t)
-	}
-	return t
-}
 
 // long returns a valid term whose text has n bytes.
 func long(n int) api.Term {
@@ -51,18 +47,6 @@ func long(n int) api.Term {
 func filled(x api.Term, text string, n int) api.Term {
 	return fun("f", x, long(n-len("f(,)")-len(text)))
 }
-
-func call(t api.Term) api.Goal { return api.Goal{Kind: api.Call, T: t} }
-
-func does(t api.Term) api.Goal { return api.Goal{Kind: api.Does, T: t} }
-
-func cut() api.Goal { return api.Goal{Kind: api.Cut} }
-
-func ifs(a, b, c []api.Goal) api.Goal { return api.Goal{Kind: api.If, A: a, B: b, C: c} }
-
-func not(l ...api.Goal) api.Goal { return api.Goal{Kind: api.Not, A: l} }
-
-func goals(l ...api.Goal) []api.Goal { return l }
 
 // bare are the names that need no quotes.
 var bare = regexp.MustCompile(`^([a-z][a-zA-Z0-9_]*|[-+*/\\^<>=~:?@#&$]+|!|;|\[\])$`)
