@@ -66,7 +66,7 @@ func defined(p api.Prog) predicates {
 func (all predicates) have(l []api.Goal) bool {
 	for _, g := range l {
 		if g.Kind == api.Call {
-			if _, is := all[predicateOf(g.T)]; !is {
+			if _, known := all[predicateOf(g.T)]; !known {
 				return false
 			}
 		}
